@@ -1,0 +1,1 @@
+"""Plans of steps whose cases mix, and what brings all of them to their end."""
