@@ -150,3 +150,34 @@ def live_by_hand(plan):
                 steps.add(name)
                 places.update(place for place, _ in lay)
     return places, steps
+
+
+def weighed_plan(rng, places=4, steps=4, heaviest=3, most=3):
+    """A plan whose steps all lay just the weight that they take, by some weights of its places."""
+    names = sorted(["e", "s"] + rng.sample([letter for letter in LETTERS if letter not in "es"], places - 2))
+    weights = {name: rng.randint(1, heaviest) for name in names}
+    weights["e"] = weights["s"]
+    triples = {}
+    for _ in range(60 * steps):
+        if len(triples) == steps:
+            break
+        take = random_heap(rng, [name for name in names if name != "e"], most, 2)
+        left = sum(weights[place] * number for place, number in take)
+        lay = {}
+        while left:
+            fitting = [name for name in names if name != "s" and weights[name] <= left]
+            if not fitting:
+                break
+            place = rng.choice(fitting)
+            number = rng.randint(1, left // weights[place])
+            lay[place] = lay.get(place, 0) + number
+            left -= number * weights[place]
+        if not left and max(lay.values()) <= 9:
+            name = LETTERS[len(triples)]
+            triples[name] = (name, take, as_heap(lay))
+    return Plan(tuple(names), tuple(triples[name] for name in sorted(triples)), "s", "e")
+
+
+def grown(value, at):
+    """A tuple with something else in one place: what is there, changed a little."""
+    return value[:at] + (value[at] + 1,) + value[at + 1:]

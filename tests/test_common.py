@@ -1,22 +1,37 @@
-"""[2] for errors to closure: arguments, sequences, results."""
+"""[2] for all functions: arguments, sequences, results."""
 
 import copy
 import unittest
 
 from caseshome.closure import check_rousing, comeable, live_plan, live_steps, rounds, rousing
+from caseshome.fractions import (added, bottom_of, compared, divided, floor_of, fraction, is_whole, less, multiplied,
+                                 worth)
 from caseshome.heaps import (amount, change_of, change_times, changed, changes_joined, common, gap, halves, heap_of,
                              joined, need_change, need_heap, over, papers_in, taken_out, times, within)
+from caseshome.lattice import (barred, belongs, check_barred, check_made, classes, coordinates, ends_order, lattice,
+                               made_by, pair_at)
+from caseshome.lists import check_lists, least_heaps, least_lists, width_of
 from caseshome.plans import (Plan, names_of, only_steps, renamed, step_change, step_of, with_places, with_step,
                              without_steps)
 from caseshome.plantext import plan_text, read_plan
+from caseshome.rows import (balances, bar_of, check_bar, check_sum, echelon, is_echelon, order_of, sum_of, transposed,
+                            turned_echelon)
 from caseshome.runs import (alike, behind_step, can_go_first, can_go_last, first_stop, folded, free, layers, many_orders,
                             most_times, need_run, possible, run_end, run_sum, steps_in, sum_change)
+from caseshome.simplex import Best, Endless, Never, check_cost, least_cost
+from caseshome.weights import (check_crew_makes, check_crew_weights, check_nothing, check_weights, crew_makes,
+                               crew_weights, kept_weights, of_nothing, weight_of, weights_kept)
 from tests.helpers import Case, great_plan
 
 FORK = read_plan("start s\nend e\nplace z\nstep f: s -> a, b\nstep g: a -> c\nstep h: b -> d\nstep j: c, d -> e")
 ONE, TWO = (("a", 2), ("b", 10 ** 12), ("s", 1)), (("a", 1), ("s", 1))
 SHIFT = (("a", -1), ("c", 7))
 PLAIN = ("f", "h", "g", "j")
+GROWS = read_plan("start s\nend e\nplace z\nstep f: s -> a\nstep g: a -> 2 a\nstep h: 2 a -> e")
+ROWS, TARGET = ((2, 0, 4), (0, 3, -1), (2, 3, 3)), (4, -3, 9)
+MADE = (("f", 2), ("g", 2), ("h", 2))
+BAR = ((("a", (1, 3)), ("b", (0, 1)), ("c", (1, 3)), ("d", (0, 1)), ("e", (1, 3)), ("s", (1, 3)), ("z", (1, 2))), (2, 3))
+EVEN = (("a", 1), ("b", 1), ("c", 1), ("d", 1), ("e", 2), ("s", 2), ("z", 1))
 
 # A function, its arguments by name in order; lists stand where a sequence is expected.
 CALLS = (
@@ -45,6 +60,36 @@ CALLS = (
     (can_go_last, {"plan": FORK, "plain": PLAIN, "at": 1}), (comeable, {"plan": FORK}), (live_steps, {"plan": FORK}),
     (rounds, {"plan": FORK}), (live_plan, {"plan": FORK}), (rousing, {"plan": FORK}),
     (check_rousing, {"plan": FORK, "value": (3, (("f", 3), ("g", 2)))}),
+    (fraction, {"top": 6, "bottom": -4}), (added, {"one": (1, 2), "other": (1, 3)}), (less, {"one": (1, 2), "other": (1, 3)}),
+    (multiplied, {"one": (1, 2), "other": (2, 3)}), (divided, {"one": (1, 2), "other": (-1, 3)}),
+    (compared, {"one": (1, 2), "other": (1, 3)}), (worth, {"fractions": [(1, 2), (1, 3)], "numbers": [3, 5]}),
+    (is_whole, {"one": (1, 2)}), (floor_of, {"one": (-1, 2)}), (bottom_of, {"fractions": [(1, 4), (5, 6)]}),
+    (echelon, {"rows": ROWS}), (is_echelon, {"rows": ROWS}), (turned_echelon, {"rows": ROWS}), (balances, {"rows": ROWS}),
+    (transposed, {"rows": ROWS, "width": 3}), (sum_of, {"rows": ROWS, "target": TARGET}),
+    (sum_of, {"rows": ROWS, "target": (1, 0, 0)}), (bar_of, {"rows": ROWS, "target": (1, 0, 0)}),
+    (check_sum, {"rows": ROWS, "target": TARGET, "value": (2, -1, 0)}),
+    (check_bar, {"rows": ROWS, "target": (1, 0, 0), "value": ((1, 2), (0, 1), (0, 1))}),
+    (order_of, {"rows": ROWS, "target": (1, 3, 1)}), (lattice, {"plan": FORK}),
+    (belongs, {"plan": FORK, "cases": 2, "heap": (("a", 2), ("d", 2))}), (coordinates, {"plan": FORK, "cases": -2, "heap": ONE}),
+    (pair_at, {"plan": FORK, "row": (0, 1, -1, 0, 0, 2, 0, 7)}),
+    (made_by, {"plan": FORK, "cases": 2, "heap": (("a", 2), ("d", 2))}), (made_by, {"plan": FORK, "cases": 2, "heap": ONE}),
+    (barred, {"plan": FORK, "cases": 2, "heap": ONE}), (barred, {"plan": FORK, "cases": 0, "heap": ()}),
+    (check_made, {"plan": FORK, "cases": 2, "heap": (("c", 2), ("d", 2)), "value": MADE}),
+    (check_barred, {"plan": FORK, "cases": 1, "heap": (("z", 1),), "value": BAR}), (ends_order, {"plan": FORK}),
+    (classes, {"plan": FORK, "heaps": [ONE, TWO, ONE, ()]}), (Best, {"cost": (1, 2), "takes": (), "prices": ((0, 1),)}),
+    (Never, {"prices": ((1, 2),)}), (Endless, {"takes": ((1, 2),), "ring": ((0, 1),)}),
+    (least_cost, {"rows": ROWS, "target": (4, 6, 6), "costs": (1, 2, 3)}),
+    (least_cost, {"rows": ROWS, "target": (-1, 0, 0), "costs": (1, 2, 3)}),
+    (least_cost, {"rows": ((1, 0), (-1, 0)), "target": (2, 0), "costs": (-1, 0)}),
+    (check_cost, {"rows": ((1,),), "target": (2,), "costs": (3,), "value": Best((6, 1), ((2, 1),), ((3, 1),))}),
+    (kept_weights, {"plan": FORK}), (kept_weights, {"plan": GROWS}), (of_nothing, {"plan": FORK}), (of_nothing, {"plan": GROWS}),
+    (check_weights, {"plan": FORK, "value": EVEN}), (check_nothing, {"plan": GROWS, "value": (("g", 2),)}),
+    (crew_weights, {"plan": GROWS, "crew": ("f", "h")}), (crew_makes, {"plan": GROWS, "crew": ("f", "g")}),
+    (check_crew_weights, {"plan": FORK, "crew": ("f", "j"), "value": EVEN}),
+    (check_crew_makes, {"plan": GROWS, "crew": ("f", "g"), "value": (("g", 2),)}), (weights_kept, {"plan": FORK}),
+    (weight_of, {"weights": EVEN, "heap": ONE}), (least_heaps, {"plan": FORK}), (least_lists, {"plan": FORK}),
+    (width_of, {"plan": FORK}), (check_lists, {"plan": FORK, "value": ((), (), ())}),
+    (check_lists, {"plan": FORK, "value": least_lists(FORK)}),
 )
 
 
@@ -52,6 +97,12 @@ def opened_up(value):
     """What is in a plan, so that all of it is compared with its sorts."""
     if isinstance(value, Plan):
         return ("plan", value.places, value.steps, value.start, value.end)
+    if isinstance(value, Best):
+        return ("best", value.cost, value.takes, value.prices)
+    if isinstance(value, Never):
+        return ("never", value.prices)
+    if isinstance(value, Endless):
+        return ("endless", value.takes, value.ring)
     if isinstance(value, (tuple, list)):
         return type(value)(opened_up(part) for part in value)
     return value
@@ -87,11 +138,12 @@ class Common(Case):
         for at, (function, named) in reversed(list(enumerate(CALLS))):
             self.exact(opened_up(function(**copy.deepcopy(named))), first[at])
 
-    def test_bools_and_not_numbers_are_told(self):
+    def test_bools_are_told(self):
         for function, named in CALLS:
-            if function in (within, free, alike, can_go_first, can_go_last, check_rousing):
-                self.assertIn(function(**named), (True, False))
+            if function in (within, free, alike, can_go_first, can_go_last, is_whole, is_echelon, belongs):
                 self.assertIs(type(function(**named)), bool)
+            if function.__name__.startswith("check_") and named["value"] not in ((3, (("f", 3), ("g", 2))), ((), (), ())):
+                self.assertIs(function(**named), True)
 
     def test_great_plans_are_answered(self):
         plan = great_plan()

@@ -24,6 +24,22 @@ NAMES = {
              "can_go_first": "plan plain at", "can_go_last": "plan plain at"},
     "closure": {"comeable": "plan", "live_steps": "plan", "rounds": "plan", "live_plan": "plan", "rousing": "plan",
                 "check_rousing": "plan value"},
+    "fractions": {"fraction": "top bottom", "added": "one other", "less": "one other", "multiplied": "one other",
+                  "divided": "one other", "compared": "one other", "worth": "fractions numbers", "is_whole": "one",
+                  "floor_of": "one", "bottom_of": "fractions"},
+    "rows": {"echelon": "rows", "is_echelon": "rows", "turned_echelon": "rows", "balances": "rows",
+             "transposed": "rows width", "sum_of": "rows target", "bar_of": "rows target",
+             "check_sum": "rows target value", "check_bar": "rows target value", "order_of": "rows target"},
+    "lattice": {"lattice": "plan", "belongs": "plan cases heap", "coordinates": "plan cases heap", "pair_at": "plan row",
+                "made_by": "plan cases heap", "barred": "plan cases heap", "check_made": "plan cases heap value",
+                "check_barred": "plan cases heap value", "ends_order": "plan", "classes": "plan heaps"},
+    "simplex": {"Best": "cost takes prices", "Never": "prices", "Endless": "takes ring",
+                "least_cost": "rows target costs", "check_cost": "rows target costs value"},
+    "weights": {"kept_weights": "plan", "of_nothing": "plan", "check_weights": "plan value",
+                "check_nothing": "plan value", "crew_weights": "plan crew", "crew_makes": "plan crew",
+                "check_crew_weights": "plan crew value", "check_crew_makes": "plan crew value", "weights_kept": "plan",
+                "weight_of": "weights heap"},
+    "lists": {"least_heaps": "plan", "least_lists": "plan", "width_of": "plan", "check_lists": "plan value"},
 }
 
 
