@@ -1,6 +1,6 @@
 """What belongs to a plan: the pairs (cases, heap) that its live steps and its start make, as far as numbers go."""
 
-from caseshome.basics import is_name, is_pair
+from caseshome.basics import is_pair
 from caseshome.closure import live_steps
 from caseshome.fractions import is_fraction
 from caseshome.heaps import is_change
@@ -67,7 +67,7 @@ def is_placed_row(plan, value, is_right):
     if not isinstance(value, tuple) or len(value) != len(plan.places):
         return False
     for place, pair in zip(plan.places, value):
-        if not is_pair(pair) or not is_name(pair[0]) or pair[0] != place or not is_right(pair[1]):
+        if not is_pair(pair) or pair[0] != place or not is_right(pair[1]):
             return False
     return True
 

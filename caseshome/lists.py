@@ -10,7 +10,8 @@ from caseshome.weights import kept_weights
 
 
 def least_heaps(plan):
-    return tuple(sorted([pair_at(plan, row) for row in least_lists(plan)[-1] if row[-1] >= 0]))
+    # All rows of the last list are nowhere below 0: by the kept weights what has papers has cases.
+    return tuple(sorted([pair_at(plan, row) for row in least_lists(plan)[-1]]))
 
 
 def width_of(plan):

@@ -121,6 +121,14 @@ class Least(Case):
             self.exact(width_of(plan), max(len(rows) for rows in found))
         self.assertGreater(whole, 40)
 
+    def test_a_beginning_goes_on_with_more_than_the_least_number(self):
+        plan = plan_of("a: s -> 2 f\nb: 3 s -> 6 t\nc: 4 f, 3 t -> 3 e, f")
+        found = least_lists(plan)
+        self.exact(found[3:], (((0, 0, 0, -6), (0, 0, 0, 6), (0, 0, 1, 0), (0, 2, 0, 0), (3, 1, 0, -3), (3, 1, 0, 3),
+                                (6, 0, 0, 0)),
+                               ((0, 0, 0, 6, 3), (0, 0, 1, 0, 1), (0, 2, 0, 0, 1), (3, 1, 0, 3, 5), (6, 0, 0, 0, 6))))
+        self.exact(found, singles_by_hand(plan, 6))
+
     def test_heaps_by_hand(self):
         rng = generator(61)
         many = 0

@@ -63,6 +63,11 @@ class Texts(Case):
                 self.wrong("\n".join(lines[:at] + [text] + lines[at + 1:]), at)
                 self.wrong("\n".join(lines[:at] + [text, "nonsense"]), at)
 
+    def test_greater_than_the_one_ahead(self):
+        self.wrong("start s\nend e\nplace b\nplace f\nplace d", 4)
+        self.wrong("start s\nend e\nstep b: s -> e\nstep f: s -> e\nstep d: s -> e", 4)
+        self.wrong("start s\nend e\nstep b: s -> e\nstep f: s -> e\nstep f: s -> e", 4)
+
     def test_what_lacks(self):
         self.wrong("", 0)
         self.wrong("start a", 1)

@@ -3,6 +3,7 @@
 import itertools
 import unittest
 from fractions import Fraction
+from math import gcd
 
 from caseshome.simplex import Best, Endless, Never, check_cost, least_cost
 from tests.byhand import is_fraction_by_hand, rank_by_hand, worth_by_hand
@@ -169,7 +170,7 @@ class Checked(Case):
                       Best((14, 1), ((0, 2), (1, 1), (2, 1)), prices), Best((14, 1), ((0, 1), (2, 2), (2, 1)), prices),
                       Best((20, 1), ((2, 1), (3, 1), (0, 1)), prices), Best((20, 1), ((2, 1), (3, 1), (0, 1)), ((4, 1), (4, 1))),
                       Best((14, 1), takes, ((4, 1), (2, 1))), Best((14, 1), takes, ((-1, 2), (5, 1))),
-                      Best((14, 1), takes, ((1, 1), (3, 1))), Best((14, 1), takes, ((1, 1), 4)),
+                      Best((14, 1), takes, ((1, 1), (3, 1))), Best((14, 1), takes, ((1, 1), 4)), Best((1, 0), takes, prices), Best((14, 1), takes, ((1, 0), (4, 1))),
                       Best((13, 1), ((-1, 1), (0, 1), (3, 1)), prices), Best((11, 1), ((-1, 1), (0, 1), (3, 1)), prices),
                       Best((14, 1), takes, None), Best(takes, (14, 1), prices)):
             self.exact(check_cost(rows, target, costs, value), False)
@@ -179,6 +180,21 @@ class Checked(Case):
         for prices in (((1, 1), (4, 1)), ((4, 1), (1, 1)), ((5, 2), (5, 2))):
             self.exact(check_cost(rows, target, costs, Best((10, 1), ((0, 1), (0, 1), (2, 1)), prices)), True)
         self.exact(check_cost(rows, target, costs, Best((10, 1), ((0, 1), (0, 1), (2, 1)), ((0, 1), (5, 1)))), False)
+
+    def test_a_hundred_figures(self):
+        rows, target, costs = ((1,), (1,)), (1,), (3, 3)
+        top, bottom = 10 ** 119 + 1, 10 ** 120 + 7
+        takes = ((top, bottom), (bottom - top, bottom))
+        self.assertEqual(gcd(top, bottom), 1)
+        self.exact(check_cost(rows, target, costs, Best((3, 1), takes, ((3, 1),))), True)
+        for value in (Best((3, 1), ((top + 1, bottom), takes[1]), ((3, 1),)), Best((3, 1), takes, ((top, bottom),)),
+                      Best((top, bottom), takes, ((3, 1),)), Best((3, 1), ((3 * top, 3 * bottom), takes[1]), ((3, 1),))):
+            self.exact(check_cost(rows, target, costs, value), False)
+        self.exact([check_cost(((-1,),), (1,), (0,), Never((one,))) for one in (takes[0], (-top, bottom), (0, 1))],
+                   [True, False, False])
+        ring = (takes[0], takes[0])
+        self.exact([check_cost(((1,), (-1,)), (0,), cost, Endless(ring, ring)) for cost in ((1, -2), (1, -1), (2, -1))],
+                   [True, False, False])
 
     def test_never(self):
         rows, target, costs = ((1, 0), (0, 1)), (-2, 3), (0, 0)
@@ -201,7 +217,7 @@ class Checked(Case):
                       Endless(takes, ((1, 1), (2, 1), (0, 1))), Endless(takes, ((-1, 1), (-1, 1), (0, 1))),
                       Endless(((1, 1), (0, 1), (1, 1)), ring), Endless(((0, 1), (-1, 1), (2, 1)), ring),
                       Endless(list(takes), ring), Endless(takes, list(ring)), Endless(takes[:2], ring),
-                      Endless(takes, ring[:2]), Endless(takes, ((1, 1), (1, 1), 0)), Endless(((1, 1), (0, 2), (2, 1)), ring),
+                      Endless(takes, ring[:2]), Endless(takes, ((1, 1), (1, 1), 0)), Endless(takes, ((1, 1), (1, 1), (1, 0))), Endless(((1, 1), (0, 2), (2, 1)), ring),
                       Endless(takes, ((True, 1), (1, 1), (0, 1))), Endless(None, ring), Endless(takes, None)):
             self.exact(check_cost(rows, target, costs, value), False)
         self.exact((check_cost(rows, target, (1, -1, 3), Endless(takes, ring)),
