@@ -1,6 +1,7 @@
 """What any value is asked first: whether it is an integer, a name, a pair."""
 
 LETTERS = "abcdefghijklmnopqrstuvwxyz"
+LONGEST_NAME = 8
 
 
 def is_integer(value):
@@ -20,7 +21,7 @@ def is_shift(value):
 
 
 def is_name(value):
-    if not isinstance(value, str) or not 1 <= len(value) <= 8:
+    if not isinstance(value, str) or not 1 <= len(value) <= LONGEST_NAME:
         return False
     return all([letter in LETTERS for letter in value])
 

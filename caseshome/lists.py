@@ -18,9 +18,13 @@ def width_of(plan):
     return max([len(rows) for rows in least_lists(plan)])
 
 
-def least_lists(plan):
+def need_weights(plan):
     if kept_weights(plan) is None:
         raise Refused("weights")
+
+
+def least_lists(plan):
+    need_weights(plan)
     form = lattice(plan)
     found = []
     ahead = ()

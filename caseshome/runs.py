@@ -48,6 +48,12 @@ def walk(plan, heap, run):
     return None, heap
 
 
+def leads(plan, heap, run, goal):
+    """Whether a run can be done and leads from a heap to a goal."""
+    stop, behind = walk(plan, heap, run)
+    return stop is None and behind == goal
+
+
 def run_sum(run):
     return changes_joined((run,))
 

@@ -5,7 +5,7 @@ from caseshome.closure import live_steps
 from caseshome.fractions import bottom_of, whole_times
 from caseshome.heaps import is_change
 from caseshome.lattice import is_placed_row
-from caseshome.plans import step_change
+from caseshome.plans import need_steps_named, step_change
 from caseshome.rows import balances
 from caseshome.runs import sum_change
 from caseshome.simplex import Best, least_cost
@@ -69,6 +69,7 @@ def check_weights(plan, value):
 
 
 def check_crew_weights(plan, crew, value):
+    need_steps_named(plan, crew)
     if not is_placed_row(plan, value, is_count):
         return False
     return all([weight_of(value, step_change(plan, name)) <= 0 for name in crew])
@@ -79,6 +80,7 @@ def check_nothing(plan, value):
 
 
 def check_crew_makes(plan, crew, value):
+    need_steps_named(plan, crew)
     return makes_something(plan, crew, value) and all([number > 0 for _, number in value])
 
 
