@@ -6,19 +6,32 @@ import unittest
 from caseshome.closure import check_rousing, comeable, live_plan, live_steps, rounds, rousing
 from caseshome.fractions import (added, bottom_of, compared, divided, floor_of, fraction, is_whole, less, multiplied,
                                  worth)
+from caseshome.court import (Growing, Stuck, Sure, Unsure, Whole, Wide, check_sure, check_verdict, sure, verdict,
+                             whole_or_not)
+from caseshome.crews import least_crews, needed_steps, only_needed, stays_whole
+from caseshome.editions import (Edition, NoEdition, can_carry, carried, carry_behind, check_edition, check_once, edition,
+                                is_living, need_carry, once, same_carry)
 from caseshome.heaps import (amount, change_of, change_times, changed, changes_joined, common, gap, halves, heap_of,
                              joined, need_change, need_heap, over, papers_in, taken_out, times, within)
+from caseshome.joining import (again, behind, behind_heaps, beside, beside_heaps, either, either_heaps, inside,
+                               known_whole)
 from caseshome.lattice import (barred, belongs, check_barred, check_made, classes, coordinates, ends_order, lattice,
                                made_by, pair_at)
+from caseshome.lending import beside_needed, check_near, near
 from caseshome.lists import check_lists, least_heaps, least_lists, width_of
+from caseshome.numbers import all_good, bad_run, good, good_numbers
 from caseshome.plans import (Plan, names_of, only_steps, renamed, step_change, step_of, with_places, with_step,
                              without_steps)
 from caseshome.plantext import plan_text, read_plan
+from caseshome.questions import is_question, most_per_case, never_below, together, worth_of
 from caseshome.rows import (balances, bar_of, check_bar, check_sum, echelon, is_echelon, order_of, sum_of, transposed,
                             turned_echelon)
 from caseshome.runs import (alike, behind_step, can_go_first, can_go_last, first_stop, folded, free, layers, many_orders,
                             most_times, need_run, possible, run_end, run_sum, steps_in, sum_change)
 from caseshome.simplex import Best, Endless, Never, check_cost, least_cost
+from caseshome.sums import from_parts, heaps_of, least_with, open_cases, parts
+from caseshome.terms import need_term, plan_of, read_term, runs_of, shape_numbers, term_heaps, term_text
+from caseshome.walks import Led, Lost, check_costs, check_led, cheapest, ends_of, first_run, led, reached
 from caseshome.weights import (check_crew_makes, check_crew_weights, check_nothing, check_weights, crew_makes,
                                crew_weights, kept_weights, of_nothing, weight_of, weights_kept)
 from tests.helpers import Case, great_plan
@@ -32,6 +45,17 @@ ROWS, TARGET = ((2, 0, 4), (0, 3, -1), (2, 3, 3)), (4, -3, 9)
 MADE = (("f", 2), ("g", 2), ("h", 2))
 BAR = ((("a", (1, 3)), ("b", (0, 1)), ("c", (1, 3)), ("d", (0, 1)), ("e", (1, 3)), ("s", (1, 3)), ("z", (1, 2))), (2, 3))
 EVEN = (("a", 1), ("b", 1), ("c", 1), ("d", 1), ("e", 2), ("s", 2), ("z", 1))
+# A whole plan, one that is not, and plans and carries to put them together and over.
+HOME = read_plan("start s\nend e\nstep f: s -> a, b\nstep g: a, b -> e\nstep h: 2 a -> 2 c\nstep k: b, c -> e")
+STUCK = read_plan("start s\nend e\nstep end: 3 b -> 3 e\nstep go: s -> e\nstep pack: 2 s -> 2 b")
+LEFT, RIGHT = read_plan("start l\nend m\nstep t: l -> m"), read_plan("start o\nend p\nstep u: o -> 2 r\nstep w: 2 r -> p")
+CARRY = (("l", (("r", 2),)), ("m", (("p", 1),)))
+LESS = (("l", (("r", 1),)), ("m", (("p", 1),)))
+COSTS = (("f", 1), ("g", 2), ("h", 0), ("k", 3))
+ENDINGS = (("g",), ("k",), (), ("f", "g"))
+BC = (("b", 1), ("c", 1))
+TERM = ("row", (("step", "a"), ("beside", "f", "j", (("step", "b"), ("again", "x", "y", "z", ("step", "c"))))))
+ASKED = ((("a", 1), ("b", -2), ("c", 0), ("s", 3)), 1)
 
 # A function, its arguments by name in order; lists stand where a sequence is expected.
 CALLS = (
@@ -90,19 +114,63 @@ CALLS = (
     (weight_of, {"weights": EVEN, "heap": ONE}), (least_heaps, {"plan": FORK}), (least_lists, {"plan": FORK}),
     (width_of, {"plan": FORK}), (check_lists, {"plan": FORK, "value": ((), (), ())}),
     (check_lists, {"plan": FORK, "value": least_lists(FORK)}),
+    (parts, {"plan": HOME, "cases": 3, "heap": (("a", 2), ("b", 2), ("s", 1))}), (from_parts, {"plan": HOME, "pairs": ((0, 2), (3, 1))}),
+    (heaps_of, {"plan": HOME, "cases": 2, "most": 99}), (open_cases, {"plan": GROWS, "cases": 2, "heap": (("e", 1),)}),
+    (least_with, {"plan": HOME, "every": 2}), (Led, {"run": ("f",)}), (Lost, {"lot": ((),)}),
+    (reached, {"plan": HOME, "crew": ("f", "g"), "heap": (("s", 2),), "most": 9}),
+    (first_run, {"plan": HOME, "crew": ("f", "h"), "heap": (("s", 2),), "goal": (("b", 2), ("c", 2)), "most": 9}),
+    (first_run, {"plan": HOME, "crew": ("f", "h"), "heap": (("s", 2),), "goal": (), "most": 9}),
+    (ends_of, {"plan": HOME, "cases": 3}), (led, {"plan": HOME, "crew": ("f", "g"), "cases": 2, "heap": (("s", 2),), "most": 9}),
+    (led, {"plan": HOME, "crew": ("f", "h"), "cases": 2, "heap": (("s", 2),), "most": 9}),
+    (check_led, {"plan": HOME, "crew": ("f", "g"), "cases": 2, "heap": (("s", 2),), "value": Led((("f", 2), ("g", 2)))}),
+    (check_led, {"plan": HOME, "crew": ("f", "g"), "cases": 1, "heap": (("c", 2),), "value": Lost(((("c", 2),),))}),
+    (cheapest, {"plan": HOME, "crew": ("g", "h", "k"), "cases": 2, "heap": (("a", 2), ("b", 2)), "costs": COSTS, "most": 20}),
+    (check_costs, {"plan": HOME, "value": COSTS}), (Growing, {"made": ()}), (Wide, {"cases": 1, "heap": ()}),
+    (Stuck, {"cases": 1, "heap": (), "lot": ()}), (Whole, {"endings": ()}), (Sure, {"endings": ()}),
+    (Unsure, {"cases": 1, "heap": (), "lot": ()}), (verdict, {"plan": HOME, "most": 9}), (verdict, {"plan": HOME, "most": 2}),
+    (verdict, {"plan": GROWS, "most": 2}), (verdict, {"plan": STUCK, "most": 9}), (whole_or_not, {"plan": HOME, "most": 2}),
+    (whole_or_not, {"plan": HOME, "most": 9}), (check_verdict, {"plan": HOME, "value": Whole(ENDINGS)}),
+    (check_verdict, {"plan": STUCK, "value": Stuck(1, (("b", 1),), ((("b", 1),),))}), (check_verdict, {"plan": GROWS, "value": Growing((("g", 2),))}),
+    (sure, {"plan": HOME, "crew": ("f", "g", "k"), "most": 9}), (sure, {"plan": HOME, "crew": ("f", "g", "h"), "most": 9}),
+    (check_sure, {"plan": HOME, "crew": ("f", "g", "k"), "value": Sure(ENDINGS)}),
+    (check_sure, {"plan": HOME, "crew": ("f", "g", "h"), "value": Unsure(1, BC, (BC,))}), (least_crews, {"plan": HOME, "most": 9}),
+    (needed_steps, {"plan": HOME, "most": 9}), (stays_whole, {"plan": HOME, "triple": ("i", (("a", 1),), (("c", 1),))}),
+    (stays_whole, {"plan": HOME, "triple": ("i", (("a", 2),), (("c", 2),))}), (only_needed, {"plan": HOME, "most": 9}),
+    (near, {"plan": HOME, "cases": 2, "heap": (("b", 2), ("c", 2)), "most": 9}),
+    (check_near, {"plan": HOME, "cases": 1, "heap": BC, "value": (1, (("f", 2), ("h", 1), ("k", 1)))}),
+    (beside_needed, {"plan": HOME, "cases": 1, "heap": BC, "most": 9, "top": 2}), (good, {"plan": STUCK, "cases": 2, "most": 9}),
+    (good, {"plan": STUCK, "cases": 1, "most": 9}), (bad_run, {"plan": STUCK, "cases": 2, "most": 9}),
+    (good_numbers, {"plan": STUCK, "most": 9, "top": 3}), (all_good, {"plan": STUCK, "every": 1, "most": 9}),
+    (all_good, {"plan": HOME, "every": 2, "most": 9}), (behind, {"one": LEFT, "other": RIGHT}), (either, {"one": LEFT, "other": RIGHT}),
+    (beside, {"one": LEFT, "other": RIGHT, "fork": "f", "join": "j", "start": "a", "end": "b"}),
+    (inside, {"plan": HOME, "step": "h", "enter": "x", "leave": "y", "inner": RIGHT}),
+    (again, {"plan": LEFT, "enter": "x", "back": "y", "leave": "z", "start": "a", "end": "b"}),
+    (known_whole, {"word": "behind", "one": True, "other": False}), (known_whole, {"word": "either", "one": True, "other": None}),
+    (behind_heaps, {"one": LEFT, "other": RIGHT}), (either_heaps, {"one": LEFT, "other": RIGHT}),
+    (beside_heaps, {"one": LEFT, "other": RIGHT, "fork": "f", "join": "j", "start": "a", "end": "b"}), (need_term, {"value": TERM}),
+    (plan_of, {"term": TERM}), (term_text, {"term": TERM}), (read_term, {"text": "(a; f(b & x(c ^ y)z)j)"}), (shape_numbers, {"term": TERM}),
+    (term_heaps, {"term": TERM}), (runs_of, {"term": TERM, "most": 10}), (Edition, {"sums": ()}), (NoEdition, {"word": "", "fractions": ()}),
+    (need_carry, {"old": LEFT, "new": RIGHT, "value": CARRY}), (carried, {"carry": CARRY, "heap": (("l", 2), ("m", 3))}),
+    (carry_behind, {"first": CARRY, "second": (("o", (("o", 1),)), ("p", (("p", 1),)), ("r", (("o", 1), ("r", 3))))}),
+    (same_carry, {"plan": RIGHT}), (is_living, {"new": RIGHT, "carry": CARRY}), (edition, {"old": LEFT, "new": RIGHT, "carry": CARRY, "most": 9}),
+    (edition, {"old": LEFT, "new": RIGHT, "carry": LESS, "most": 9}),
+    (check_edition, {"old": LEFT, "new": RIGHT, "carry": CARRY, "value": edition(LEFT, RIGHT, CARRY, 9)}),
+    (check_edition, {"old": LEFT, "new": RIGHT, "carry": LESS, "value": edition(LEFT, RIGHT, LESS, 9)}),
+    (can_carry, {"old": LEFT, "new": RIGHT, "carry": LESS, "cases": 2, "heap": (("l", 2),), "most": 9}),
+    (once, {"old": LEFT, "new": RIGHT, "carry": CARRY, "crew": ("w",), "most": 9}),
+    (once, {"old": LEFT, "new": RIGHT, "carry": LESS, "crew": ("w",), "most": 9}),
+    (check_once, {"old": LEFT, "new": RIGHT, "carry": CARRY, "crew": ("w",), "value": Sure((("w",), ()))}),
+    (worth_of, {"plan": HOME, "question": ASKED, "cases": 3, "heap": (("a", 2), ("e", 1))}),
+    (never_below, {"plan": HOME, "question": ASKED, "most": 9}), (is_question, {"plan": HOME, "value": ASKED}),
+    (most_per_case, {"plan": HOME, "place": "a", "most": 9}), (together, {"plan": HOME, "heaps": [BC, (), BC], "most": 9}),
 )
+CLASSES = (Plan, Best, Never, Endless, Led, Lost, Growing, Wide, Stuck, Whole, Sure, Unsure, Edition, NoEdition)
 
 
 def opened_up(value):
     """What is in a plan, so that all of it is compared with its sorts."""
-    if isinstance(value, Plan):
-        return ("plan", value.places, value.steps, value.start, value.end)
-    if isinstance(value, Best):
-        return ("best", value.cost, value.takes, value.prices)
-    if isinstance(value, Never):
-        return ("never", value.prices)
-    if isinstance(value, Endless):
-        return ("endless", value.takes, value.ring)
+    if isinstance(value, CLASSES):
+        return (type(value).__name__, *[(name, opened_up(part)) for name, part in sorted(vars(value).items())])
     if isinstance(value, (tuple, list)):
         return type(value)(opened_up(part) for part in value)
     return value
@@ -140,7 +208,8 @@ class Common(Case):
 
     def test_bools_are_told(self):
         for function, named in CALLS:
-            if function in (within, free, alike, can_go_first, can_go_last, is_whole, is_echelon, belongs):
+            if function in (within, free, alike, can_go_first, can_go_last, is_whole, is_echelon, belongs, good, can_carry,
+                            is_living, is_question):
                 self.assertIs(type(function(**named)), bool)
             if function.__name__.startswith("check_") and named["value"] not in ((3, (("f", 3), ("g", 2))), ((), (), ())):
                 self.assertIs(function(**named), True)

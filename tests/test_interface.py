@@ -40,7 +40,37 @@ NAMES = {
                 "check_crew_weights": "plan crew value", "check_crew_makes": "plan crew value", "weights_kept": "plan",
                 "weight_of": "weights heap"},
     "lists": {"least_heaps": "plan", "least_lists": "plan", "width_of": "plan", "check_lists": "plan value"},
+    "sums": {"parts": "plan cases heap", "from_parts": "plan pairs", "heaps_of": "plan cases most",
+             "open_cases": "plan cases heap", "least_with": "plan every"},
+    "walks": {"Led": "run", "Lost": "lot", "reached": "plan crew heap most", "first_run": "plan crew heap goal most",
+              "ends_of": "plan cases", "led": "plan crew cases heap most", "check_led": "plan crew cases heap value",
+              "cheapest": "plan crew cases heap costs most", "check_costs": "plan value"},
+    "court": {"Growing": "made", "Wide": "cases heap", "Stuck": "cases heap lot", "Whole": "endings", "Sure": "endings",
+              "Unsure": "cases heap lot", "verdict": "plan most", "check_verdict": "plan value",
+              "whole_or_not": "plan most", "sure": "plan crew most", "check_sure": "plan crew value"},
+    "crews": {"least_crews": "plan most", "needed_steps": "plan most", "stays_whole": "plan triple",
+              "only_needed": "plan most"},
+    "lending": {"near": "plan cases heap most", "check_near": "plan cases heap value",
+                "beside_needed": "plan cases heap most top"},
+    "numbers": {"good": "plan cases most", "bad_run": "plan cases most", "good_numbers": "plan most top",
+                "all_good": "plan every most"},
+    "joining": {"behind": "one other", "either": "one other", "beside": "one other fork join start end",
+                "inside": "plan step enter leave inner", "again": "plan enter back leave start end",
+                "known_whole": "word one other", "behind_heaps": "one other", "either_heaps": "one other",
+                "beside_heaps": "one other fork join start end"},
+    "terms": {"need_term": "value", "plan_of": "term", "term_text": "term", "read_term": "text",
+              "shape_numbers": "term", "term_heaps": "term", "runs_of": "term most"},
+    "editions": {"Edition": "sums", "NoEdition": "word fractions", "need_carry": "old new value",
+                 "carried": "carry heap", "carry_behind": "first second", "same_carry": "plan",
+                 "is_living": "new carry", "edition": "old new carry most", "check_edition": "old new carry value",
+                 "can_carry": "old new carry cases heap most", "once": "old new carry crew most",
+                 "check_once": "old new carry crew value"},
+    "questions": {"worth_of": "plan question cases heap", "never_below": "plan question most",
+                  "is_question": "plan value", "most_per_case": "plan place most", "together": "plan heaps most"},
 }
+# The classes with a described ==, which each defines itself.
+COMPARED = {"plans": "Plan", "simplex": "Best Never Endless", "walks": "Led Lost", "editions": "Edition NoEdition",
+            "court": "Growing Wide Stuck Whole Sure Unsure"}
 
 
 class Interface(unittest.TestCase):
@@ -55,6 +85,14 @@ class Interface(unittest.TestCase):
                 for one in told:
                     self.assertIs(one.default, inspect.Parameter.empty, name)
                     self.assertIs(one.kind, inspect.Parameter.POSITIONAL_OR_KEYWORD, name)
+
+    def test_equality_is_their_own(self):
+        for module, names in COMPARED.items():
+            found = importlib.import_module("caseshome." + module)
+            for name in names.split():
+                self.assertIn("__eq__", vars(getattr(found, name)), name)
+                self.assertNotIn("__len__", dir(getattr(found, name)), name)
+                self.assertNotIn("__iter__", dir(getattr(found, name)), name)
 
 
 if __name__ == "__main__":

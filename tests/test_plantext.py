@@ -1,5 +1,6 @@
 """[9]: the texts of plans."""
 
+import re
 import unittest
 
 from caseshome.errors import InvalidText
@@ -8,6 +9,43 @@ from caseshome.plantext import plan_text, read_plan
 from tests.helpers import ODD, Case, generator, great_plan, nested, plan_of, random_plan
 
 TEXT = "start a\nend c\nplace d\nplace x\nstep t: 2 a -> 3 b, c\nstep u: b, 9 f -> f"
+
+
+PAPERS = r"(?:[2-9] )?[a-z]{1,8}(?:, (?:[2-9] )?[a-z]{1,8})*"
+SHAPES = (r"start ([a-z]{1,8})", r"end ([a-z]{1,8})", r"place ([a-z]{1,8})", rf"step ([a-z]{{1,8}}): ({PAPERS}) -> ({PAPERS})")
+
+
+def names_in(papers):
+    return [words.split(" ")[-1] for words in papers.split(", ")]
+
+
+def fault_by_hand(text):
+    """The number of the first line that no text of a plan has there, by all lines ahead of it; None for a text."""
+    lines = text.split("\n")
+    start, end, places, steps = None, None, [], []
+    for at, line in enumerate(lines):
+        sort = 0 if at == 0 else 1 if at == 1 else 2 if line.startswith("place") else 3
+        match = re.fullmatch(SHAPES[sort], line)
+        if match is None:
+            return at
+        told = match.groups()
+        if sort == 0:
+            start = told[0]
+        elif sort == 1:
+            end = told[0]
+            if end == start:
+                return at
+        elif sort == 2:
+            if steps or told[0] in (start, end) or (places and places[-1] >= told[0]):
+                return at
+            places.append(told[0])
+        else:
+            take, lay = names_in(told[1]), names_in(told[2])
+            ascending = all(names == sorted(set(names)) for names in (take, lay))
+            if not ascending or end in take or start in lay or (steps and steps[-1] >= told[0]) or set(take + lay) & set(places):
+                return at
+            steps.append(told[0])
+    return 1 if len(lines) == 1 else None
 
 
 class Texts(Case):
@@ -89,6 +127,42 @@ class Texts(Case):
                 self.assertIn(error.at, range(len(lines) + 1))
                 if error.at > 1:
                     self.exact(plan_text(read_plan("\n".join(lines[:error.at]))), "\n".join(lines[:error.at]))
+
+    def test_by_hand(self):
+        rng = generator(7)
+        counts = {}
+        texts = [plan_text(random_plan(rng, rng.randint(2, 8), rng.randint(0, 6), 9, 3)) for _ in range(60)] + [TEXT]
+        for _ in range(4000):
+            lines = rng.choice(texts).split("\n")
+            for _ in range(rng.randint(1, 2)):
+                self.spoil(rng, lines, texts)
+            text = "\n".join(lines)
+            at = fault_by_hand(text)
+            if at is None:
+                self.exact(plan_text(read_plan(text)), text)
+            else:
+                self.wrong(text, at)
+            counts[at] = counts.get(at, 0) + 1
+        self.assertTrue(all(counts.get(at, 0) > 30 for at in (None, 0, 1, 2, 3, 4, 5)))
+
+    def spoil(self, rng, lines, texts):
+        """A line more, or less, or in another place, or of another text, or with another sign."""
+        if not lines:
+            return
+        at, kind = rng.randrange(len(lines)), rng.randrange(6)
+        if kind == 0:
+            lines.insert(at, rng.choice(rng.choice(texts).split("\n")))
+        elif kind == 1:
+            lines.pop(at)
+        elif kind == 2:
+            other = rng.randrange(len(lines))
+            lines[at], lines[other] = lines[other], lines[at]
+        elif kind == 3:
+            lines[at] = rng.choice(rng.choice(texts).split("\n"))
+        elif lines[at]:
+            sign = rng.randrange(len(lines[at]))
+            more = rng.choice(["", "a", " ", "2", "1", ",", "-", ">", ":", "z", ", ", "9 "])
+            lines[at] = lines[at][:sign] + more + lines[at][sign + rng.randint(0, 1):]
 
 
 if __name__ == "__main__":
