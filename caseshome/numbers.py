@@ -42,8 +42,7 @@ def bad_run(plan, cases, most):
 
 def good_numbers(plan, most, top):
     need_weights(plan)
-    # Fewer cases never come to more heaps: so this one is refused if any is.
-    walk_of(plan, top, most)
+    # Fewer cases never come to more heaps: where some number is refused the last one is.
     return tuple([cases for cases in range(top + 1) if is_good(plan, cases, most)])
 
 

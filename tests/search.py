@@ -33,6 +33,10 @@ GROWING = ("t: s -> a\nu: a -> 2 a\nv: a -> e",
            "t: s -> 2 e\nu: s -> e",
            "t: s -> a\nu: a -> e\nv: 2 a -> a, e\nw: a, s -> 2 a, e")
 
+# Twelve steps; least heaps that lead to 5,322 heaps in all, one of them to 2,003.
+GREAT = plan_of("in: s -> a\nab: a -> b\nbc: b -> c\ncd: c -> d\ndf: d -> f\nfe: f -> e\npx: 9 s -> 9 x\npy: 9 s -> 9 y\n"
+                "pz: 8 s -> 8 z\nqx: 9 x -> 9 a\nqy: 9 y -> 9 a\nqz: 8 z -> 8 a")
+
 
 def whole_plan(rng, most=2):
     """A whole plan: one of those above, with some steps more whose changes belong with 0 cases."""

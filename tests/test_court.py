@@ -10,8 +10,8 @@ from caseshome.plans import Plan, names_of
 from caseshome.plantext import read_plan
 from caseshome.weights import of_nothing
 from tests.helpers import ODD, Case, generator, heap, nested, plan_of, random_plan, weighed_plan
-from tests.search import (GROWING, STUCK, WHOLE, belongs_by_hand, end_by_hand, ends, first_lost, is_closed, live_of, starts,
-                          walk_by_hand, whole_plan)
+from tests.search import (GREAT, GROWING, STUCK, WHOLE, belongs_by_hand, end_by_hand, ends, first_lost, is_closed, live_of,
+                          starts, walk_by_hand, whole_plan)
 
 PLAN = read_plan("start s\nend e\nstep f: s -> a, b\nstep g: a, b -> e\nstep h: 2 a -> 2 c\nstep k: b, c -> e")
 LOST = read_plan("start s\nend e\nstep p: s -> 2 a\nstep q: 3 a -> e")
@@ -123,13 +123,14 @@ class Verdicts(Case):
             self.assertTrue(sure(plan, names_of(plan), 4000) == Sure(found.endings))
 
     def test_many_heaps_in_all(self):
-        # Branches that run side by side: 29 least heaps, of which the start leads to all.
-        plan = plan_of("f: s -> a, b, c\nd: a -> aa\ng: aa -> ab\nh: b -> ba\ni: ba -> bb\nj: c -> ca\nk: ca -> cb\n"
-                       "l: cb -> cc\nm: ab, bb, cc -> e")
-        for _ in range(20):
-            found = verdict(plan, 4000)
-            self.exact(type(found), Whole)
-            self.exact(check_verdict(plan, found), True)
+        sizes = [len(walk_by_hand(GREAT, live_of(GREAT), papers)) for _, papers in least_heaps(GREAT)]
+        self.exact((sum(sizes), max(sizes)), (5322, 2003))
+        for _ in range(10):
+            found = verdict(GREAT, 2003)
+            self.exact((type(found), check_verdict(GREAT, found)), (Whole, True))
+            self.assertTrue(verdict(GREAT, 2002) == Wide(9, heap(x=9)))
+            self.assertTrue(sure(GREAT, live_of(GREAT), 4000) == Sure(found.endings))
+            self.assertTrue(isinstance(sure(GREAT, live_of(GREAT)[1:], 4000), Unsure))
 
 
 class CheckedVerdicts(Case):

@@ -10,7 +10,7 @@ from caseshome.lists import least_heaps
 from caseshome.plans import Plan, names_of
 from tests.byhand import is_fraction_by_hand, worth_by_hand
 from tests.helpers import ODD, Case, change_by_hand, generator, heap, nested, plan_of, random_heap, triple_of
-from tests.search import (GROWING, STUCK, WHOLE, belongs_by_hand, ends, joined_by_hand, live_of, walk_by_hand, whole_plan)
+from tests.search import (GREAT, GROWING, STUCK, WHOLE, belongs_by_hand, ends, joined_by_hand, live_of, walk_by_hand, whole_plan)
 
 OLD = Plan(("a", "b", "c"), (("go", (("a", 1),), (("b", 1),)), ("up", (("b", 1),), (("c", 1),))), "a", "c")
 NEW = Plan(("x", "y"), (("do", (("x", 1),), (("y", 1),)),), "x", "y")
@@ -359,7 +359,7 @@ class CheckedEditions(Case):
         self.assertIs(NoEdition(None, kept).fractions, kept)
         self.assertTrue(Edition(kept) == Edition(["x"]) and NoEdition("a", kept) == NoEdition("a", ["x"]))
         self.assertFalse(Edition(kept) == Edition(["y"]) or NoEdition("a", kept) == NoEdition("b", kept))
-        self.assertFalse(NoEdition("a", kept) == NoEdition("a", ["y"]) or Edition(kept) == NoEdition("", kept) or Edition(kept) == kept)
+        self.assertFalse(NoEdition("a", kept) == NoEdition("a", ["y"]) or Edition(kept) == NoEdition("", kept) or NoEdition("", kept) == Edition(kept) or Edition(kept) == kept)
         for kind in (Edition, NoEdition):
             self.assertIn("__eq__", vars(kind))
 
@@ -487,6 +487,10 @@ class Once(Case):
             told = once(plan, plan, same_carry(plan), names_of(plan), 4000)
             self.exact((type(told), check_once(plan, plan, same_carry(plan), names_of(plan), told)), (Sure, True))
             self.assertTrue(isinstance(edition(plan, plan, same_carry(plan), 4000), Edition))
+            self.assertTrue(isinstance(edition(GREAT, GREAT, same_carry(GREAT), 4000), Edition))
+            self.exact(can_carry(GREAT, GREAT, same_carry(GREAT), 9, heap(x=9), 4000), True)
+            told = once(GREAT, GREAT, same_carry(GREAT), names_of(GREAT), 2003)
+            self.exact((type(told), check_once(GREAT, GREAT, same_carry(GREAT), names_of(GREAT), told)), (Sure, True))
 
 
 if __name__ == "__main__":

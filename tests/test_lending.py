@@ -7,7 +7,7 @@ from caseshome.lending import beside_needed, check_near, near
 from caseshome.lists import least_heaps
 from caseshome.plans import Plan
 from tests.helpers import ODD, Case, generator, heap, nested, plan_of, random_heap, weighed_plan
-from tests.search import (GROWING, STUCK, WHOLE, belongs_by_hand, end_by_hand, ends, joined_by_hand, live_of, starts,
+from tests.search import (GREAT, GROWING, STUCK, WHOLE, belongs_by_hand, end_by_hand, ends, joined_by_hand, live_of, starts,
                           walk_by_hand, whole_plan)
 
 LEND = Plan(("a", "e", "s", "z"), (("in", (("s", 1),), (("a", 1),)), ("last", (("z", 1),), (("e", 1),)),
@@ -100,6 +100,7 @@ class Near(Case):
         plan = plan_of("\n".join(lines), places=("p", "q", "r"))
         for _ in range(10):
             self.holds(plan, 10 ** 12, heap(a=7 * 10 ** 12 - 7, b=3, c=4), near(plan, 10 ** 12, heap(a=7 * 10 ** 12 - 7, b=3, c=4), 4000))
+            self.holds(GREAT, 35, heap(x=9, y=18, z=8), near(GREAT, 35, heap(x=9, y=18, z=8), 4000))
 
 
 class Checked(Case):

@@ -8,7 +8,7 @@ from caseshome.lists import least_heaps
 from caseshome.plantext import read_plan
 from caseshome.questions import is_question, most_per_case, never_below, together, worth_of
 from tests.helpers import ODD, Case, generator, heap, live_by_hand, nested, plan_of, random_heap
-from tests.search import GROWING, STUCK, WHOLE, joined_by_hand, live_of, starts, walk_by_hand, whole_plan
+from tests.search import GREAT, GROWING, STUCK, WHOLE, joined_by_hand, live_of, starts, walk_by_hand, whole_plan
 
 PLAN = read_plan("start s\nend e\nstep go: s -> a\nstep home: a -> e\nstep late: z -> e\nstep lend: a, s -> e, z")
 QUESTION = ((("a", 1), ("s", 0), ("z", -1)), 0)
@@ -155,6 +155,9 @@ class Shares(Case):
             self.exact(never_below(plan, question, 4000), (1, heap(s=1)))
             self.exact(most_per_case(plan, "b", 4000), (7, 1))
             self.exact(together(plan, [heap(a=1, b=1, c=1)] * 9, 4000), (True,) * 9)
+            self.exact(most_per_case(GREAT, "z", 4000), (1, 1))
+            self.exact(never_below(GREAT, (tuple((place, -1 if place == "z" else 1) for place in GREAT.places if place != "e"), 0), 4000),
+                       (8, heap(z=8)))
 
 
 if __name__ == "__main__":

@@ -174,6 +174,16 @@ class Heaps(Case):
             self.refused(Refused, {"word": "many"}, heaps_of, line, 30, 4000)
 
 
+    def test_many_papers(self):
+        plan = plan_of("f: s -> 9 a\ng: 9 a -> e", places=("b",))
+        for cases in (1, 2, 5, 20):
+            self.exact(heaps_of(plan, cases, 4000), tuple(sorted(
+                tuple(sorted((place, number) for place, number in (("a", 9 * one), ("e", two), ("s", cases - one - two)) if number))
+                for one in range(cases + 1) for two in range(cases + 1 - one))))
+        great = plan_of("f: s -> 9 a\ng: a -> 9 b\nh: b -> 9 c", places=("aa", "bb"))
+        self.exact(heaps_of(great, 1, 4000)[:3], (heap(a=1, b=1, c=639), heap(a=1, b=2, c=630), heap(a=1, b=3, c=621)))
+
+
 class Multiples(Case):
     def test_examples(self):
         self.exact((least_with(PLAN, 1), least_with(PLAN, 2)[:3]),
@@ -215,6 +225,13 @@ class Multiples(Case):
                 cases, papers = sum(one for one, _ in chosen), joined_by_hand([one for _, one in chosen])
                 if cases % every == 0:
                     self.assertTrue(any(within_by_hand(other, papers) for _, other in found))
+
+    def test_many_papers(self):
+        plan = plan_of("f: s -> 9 a\ng: 9 a -> e", places=("b",))
+        for every in (2, 3, 7):
+            self.exact(least_with(plan, every), tuple(sorted(
+                (every, tuple(sorted((place, number) for place, number in (("a", 9 * one), ("e", two), ("s", every - one - two)) if number)))
+                for one in range(every + 1) for two in range(every + 1 - one))))
 
     def test_cases_that_go_together(self):
         plan = plan_of("t: 2 s -> 3 a\nu: 3 a -> 2 e")

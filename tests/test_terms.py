@@ -152,7 +152,7 @@ class Terms(Case):
                       ("row", (A, B), C), ("either", (A,)), ("either", None), ("Row", (A, B)), ("beside", "f", (A, B)), ("beside", "f", "j"),
                       ("beside", "f", "j", (A,)), ("beside", "F", "j", (A, B)), ("beside", "f", 1, (A, B)), ("beside", "f", "j", A, B),
                       ("beside", "f", "j", [A, B]), ("beside", "f", "j", ()), ("again", "x", "y", A), ("again", "x", "y", "z"),
-                      ("again", "x", "y", "z", A, B), ("again", "x", "", "z", A), ("again", None, "y", "z", A), ("again", "x", "y", True, A),
+                      ("again", "x", "y", "z", A, B), ("again", "x", "", "z", A), ("again", None, "y", "z", A), ("again", "x", "y", True, A), ("rings", "x", "y", "z", A),
                       (("step", "a"),), (1, "a"), (None, "a"), (["step"], "a"), ((), (A, B))):
             self.wrong(value, ())
             self.wrong(("row", (A, value)), (1,))

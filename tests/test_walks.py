@@ -67,6 +67,14 @@ class Reached(Case):
             for k in range(6))))
         self.refused(Refused, {"word": "many"}, reached, plan_of("t: s -> a"), ("t",), heap(s=many), 4000)
 
+    def test_papers_that_grow_more(self):
+        plan = plan_of("t: s -> 9 a", places=("b",))
+        expected = tuple(sorted(tuple(sorted((place, number) for place, number in (("a", 9 * k), ("s", 100 - k)) if number))
+                                for k in range(101)))
+        self.exact(reached(plan, ("t",), heap(s=100), 101), expected)
+        self.refused(Refused, {"word": "many"}, reached, plan, ("t",), heap(s=100), 100)
+        self.exact(first_run(plan, ("t",), heap(s=100), heap(a=900), 101), ("t",) * 100)
+
     def test_refusals_in_order(self):
         for function, rest in ((reached, (heap(s=9), 1)), (first_run, (heap(s=9), heap(s=9), 1)), (led, (9, heap(s=9), 1)),
                                (cheapest, (9, heap(s=9), tuple((name, 1) for name in names_of(GROWS)), 1))):
@@ -128,6 +136,8 @@ class Runs(Case):
                 goal = ((place, 2 ** power),)
                 self.exact(first_run(plan, ("t",), heap(s=2), goal, 3), () if goal == heap(s=2) else
                            ("t", "t") if goal == heap(a=2) else None)
+                self.exact(first_run(plan, ("t",), heap(s=1), goal, 3), None)
+                self.exact(first_run(plan, ("t",), heap(b=1, s=1), goal, 3), None)
 
     def test_the_first_of_the_shortest(self):
         plan = plan_of("a: s -> p\nb: s -> q\nc: q -> e\nd: p -> e\nf: s -> e\ng: p -> q")
@@ -240,6 +250,15 @@ class Checked(Case):
         self.exact(check_led(PLAN, (), 0, (), Lost(((),))), False)
         self.exact(check_led(PLAN, crew + ("k",), 2, one, Lost(lot)), False)
 
+    def test_lots_of_all_numbers(self):
+        plan = plan_of("t: 9 a -> 9 b\nu: b -> c")
+        for many in list(range(1, 140)) + [2 ** power + more for power in range(7, 50) for more in (-9, -1, 0, 1, 8)]:
+            self.exact(check_led(plan, ("t",), 1, heap(a=many), Lost((heap(a=many),))), many < 9)
+            self.exact(check_led(plan, ("u",), 1, heap(b=many), Lost((heap(b=many),))), False)
+            moved = heap(b=9) if many == 9 else heap(a=many - 9, b=9)
+            if many >= 9:
+                self.exact(check_led(plan, ("t",), 1, heap(a=many), Lost(tuple(sorted((heap(a=many), moved))))), many < 18)
+
     def test_lots_by_chance(self):
         rng = generator(83)
         counts = [0, 0]
@@ -338,6 +357,10 @@ class Cheapest(Case):
         for numbers, expected in (((1, 1, 3, 1, 1), (2, ("a", "b"))), ((1, 1, 2, 1, 1), (2, ("c",))), ((2, 1, 4, 1, 1), (2, ("d", "f"))),
                                   ((0, 0, 0, 0, 0), (0, ("c",))), ((0, 1, 1, 0, 0), (0, ("d", "f"))), ((1, 0, 9, 0, 1), (1, ("a", "b")))):
             self.exact(cheapest(plan, crew, 1, heap(s=1), tuple(zip(crew, numbers)), 5), expected)
+
+    def test_ways_that_do_not_come_home(self):
+        plan = plan_of("a: s -> p\nb: s -> e\nc: p -> q")
+        self.exact(cheapest(plan, ("a", "b", "c"), 2, heap(s=2), (("a", 0), ("b", 5), ("c", 0)), 20), (10, ("b", "b")))
 
     def test_rings_that_cost_nothing(self):
         costs = (("a", 0), ("b", 0), ("c", 0), ("d", 7))
