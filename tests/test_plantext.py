@@ -93,7 +93,7 @@ class Texts(Case):
                 "step t: , a -> c", "step t: a -> c, b", "step t: a -> b -> c", "step t: -> b", "step t:  -> b",
                 "step t: a -> a", "step t: a -> a, b", "step t: c -> b", "step t: a, c -> b", "step t: d -> b",
                 "step t: a -> x", "step t: a -> b, d", "step t: A -> b", "step t u: a -> b", "step abcdefghi: a -> b",
-                "step t: 2 3 a -> b", "step t: a -> 2", "step t: \u0662 a -> b", "step t: a -> b\r", "place y: a -> b"),
+                "step t: 2 3 a -> b", "step t: x a -> b", "step t: a -> 2", "step t: \u0662 a -> b", "step t: a -> b\r", "place y: a -> b"),
                ("step t: a -> b", "step s: a -> b", "place z", "", "step u", "end c", "start a", "step u: c -> b"))
         for at, texts in enumerate(bad):
             for text in texts:
