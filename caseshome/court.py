@@ -87,7 +87,11 @@ def verdict(plan, most):
     made = of_nothing(plan)
     if made is not None:
         return Growing(made)
-    pairs = least_heaps(plan)
+    return verdict_over(plan, least_heaps(plan), most)
+
+
+def verdict_over(plan, pairs, most):
+    """The verdict on a plan with kept weights, by its least heaps."""
     endings, at, lot = first_not_led(plan, live_steps(plan), pairs, most)
     if at is None:
         return Whole(endings)
@@ -145,7 +149,11 @@ def sure(plan, crew, most):
     need_steps_named(plan, crew)
     need_whole(plan, most)
     need_crew_weights(plan, crew)
-    pairs = least_heaps(plan)
+    return sure_over(plan, crew, least_heaps(plan), most)
+
+
+def sure_over(plan, crew, pairs, most):
+    """What is told of a crew of a whole plan, by the least heaps."""
     # No crew comes to more heaps than all live steps, and those of a whole plan come to no more than `most`.
     endings, at, lot = first_not_led(plan, crew, pairs, most)
     return Sure(endings) if at is None else Unsure(pairs[at][0], pairs[at][1], lot)

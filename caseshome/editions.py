@@ -30,13 +30,23 @@ class NoEdition:
 
 
 def need_carry(old, new, value):
+    at = first_not_carried(old, new, value)
+    if at is not None:
+        raise InvalidCarry(at)
+
+
+def is_carry(old, new, value):
+    return first_not_carried(old, new, value) is None
+
+
+def first_not_carried(old, new, value):
+    """The number of the first thing that is no right pair or lacks, -1 for no tuple, None if it is a carry."""
     if not isinstance(value, tuple):
-        raise InvalidCarry(-1)
+        return -1
     for at, pair in enumerate(value):
         if at >= len(old.places) or not is_carried_place(old, new, old.places[at], pair):
-            raise InvalidCarry(at)
-    if len(value) < len(old.places):
-        raise InvalidCarry(len(value))
+            return at
+    return len(value) if len(value) < len(old.places) else None
 
 
 def is_carried_place(old, new, place, pair):
@@ -80,6 +90,11 @@ def dues(old, carry):
 
 def edition(old, new, carry, most):
     need_whole_and_living(new, carry, most)
+    return edition_into(old, new, carry)
+
+
+def edition_into(old, new, carry):
+    """What is told of a living carry into a whole plan."""
     sums = []
     for word, cases, change in dues(old, carry):
         made = made_by(new, cases, change)

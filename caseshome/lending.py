@@ -12,10 +12,16 @@ from caseshome.sums import parts
 from caseshome.walks import ends_of, need_crew_weights, starts_of, walk_within
 
 
-def ending_of(plan, whole, cases, heap):
-    """The run that ends what belongs to a whole plan: each of its parts by the ending of its least heap."""
-    rows = [(name, many) for at, many in parts(plan, cases, heap) for name in whole.endings[at]]
-    return folded(rows)
+def ending_by(whole, found):
+    """The run that ends the parts of what belongs to a whole plan: each one by the ending of its least heap."""
+    return folded([(name, many) for at, many in found for name in whole.endings[at]])
+
+
+def way_of_lender(plan, whole):
+    """So many cases, a run to a heap of theirs with papers wherever papers can come, that heap, and a run home."""
+    lent, out = rousing(plan)
+    full = run_end(plan, starts_of(plan, lent), out)
+    return lent, out, full, ending_by(whole, parts(plan, lent, full))
 
 
 def run_times(run, number):
@@ -28,10 +34,7 @@ def near(plan, cases, heap, most):
     made = made_by(plan, cases, heap)
     if made is None:
         raise Refused("belongs")
-    # One lender are so many cases that come to a heap with papers wherever papers can come, and from there home.
-    lent, out = rousing(plan)
-    full = run_end(plan, starts_of(plan, lent), out)
-    home = ending_of(plan, whole, lent, full)
+    lent, out, full, home = way_of_lender(plan, whole)
     passers = passers_for(dict(made), out + home)
     middle = changes_joined((made, run_times(out + home, passers)))
     lenders = lenders_for(plan, middle, full)

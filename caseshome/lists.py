@@ -10,8 +10,13 @@ from caseshome.weights import kept_weights
 
 
 def least_heaps(plan):
+    return heaps_in(plan, least_lists(plan))
+
+
+def heaps_in(plan, lists):
+    """The pairs (cases, heap) of the last of the lists of single beginnings, ascending."""
     # All rows of the last list are nowhere below 0: by the kept weights what has papers has cases.
-    return tuple(sorted([pair_at(plan, row) for row in least_lists(plan)[-1]]))
+    return tuple(sorted([pair_at(plan, row) for row in lists[-1]]))
 
 
 def width_of(plan):
@@ -25,6 +30,11 @@ def need_weights(plan):
 
 def least_lists(plan):
     need_weights(plan)
+    return single_lists(plan)
+
+
+def single_lists(plan):
+    """The lists of single beginnings of a plan with kept weights."""
     form = lattice(plan)
     found = []
     ahead = ()
@@ -101,9 +111,12 @@ def lies_within(row, other):
 
 
 def check_lists(plan, value):
+    return kept_weights(plan) is not None and are_lists(plan, value)
+
+
+def are_lists(plan, value):
+    """Whether it has the lists of a plan with kept weights."""
     if not isinstance(value, tuple) or len(value) != len(plan.places) + 1:
-        return False
-    if kept_weights(plan) is None:
         return False
     form = lattice(plan)
     ahead = ()
@@ -148,6 +161,11 @@ def has_singles(form, place, ahead, rows):
             if not goes_off(rows, added_rows(row, other)):
                 return False
     return True
+
+
+def single_among(rows):
+    """Those of a last list that have no other one within them: just the single ones, if all of these are there."""
+    return [row for row in rows if not has_within([other for other in rows if other != row], row)]
 
 
 def goes_off(rows, row):

@@ -11,6 +11,11 @@ def parts(plan, cases, heap):
     pairs = least_heaps(plan)
     if not belongs(plan, cases, heap):
         raise Refused("belongs")
+    return parts_among(pairs, heap)
+
+
+def parts_among(pairs, heap):
+    """The parts, among least heaps, of a heap that belongs."""
     found = []
     for at, (_, papers) in enumerate(pairs):
         often = min([amount(heap, place) // number for place, number in papers])

@@ -242,8 +242,12 @@ def is_heap_of(plan, value):
 
 
 def cheapest(plan, crew, cases, heap, costs, most):
-    walk = weighed_walk(plan, crew, heap, most)
-    goal = walk.number_of(ends_of(plan, cases))
+    return cheapest_on(weighed_walk(plan, crew, heap, most), ends_of(plan, cases), costs)
+
+
+def cheapest_on(walk, ends, costs):
+    """The pair of the least cost of a run of the walk to the ends and of the first of the shortest ones, else None."""
+    goal = walk.number_of(ends)
     if goal is None:
         return None
     cost_of_step = dict(costs)

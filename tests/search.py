@@ -150,3 +150,21 @@ def joined_by_hand(heaps):
         for place, number in heap:
             papers[place] = papers.get(place, 0) + number
     return as_heap({place: number for place, number in papers.items() if number})
+
+
+def cheapest_by_hand(plan, crew, heap_there, goal, costs):
+    """The least (cost, steps, run) of all plain runs, by letting better ones go on until none comes."""
+    best, cost_of = {heap_there: (0, 0, ())}, dict(costs)
+    going = True
+    while going:
+        going = False
+        for papers, (cost, steps, run) in list(best.items()):
+            for name in crew:
+                behind = end_by_hand(plan, papers, (name,))
+                if behind is None:
+                    continue
+                told = (cost + cost_of[name], steps + 1, run + (name,))
+                if behind not in best or told < best[behind]:
+                    best[behind] = told
+                    going = True
+    return (best[goal][0], best[goal][2]) if goal in best else None

@@ -7,7 +7,7 @@ from caseshome.plans import Plan, names_of
 from caseshome.plantext import read_plan
 from caseshome.walks import Led, Lost, check_costs, check_led, cheapest, ends_of, first_run, led, reached
 from tests.helpers import ODD, Case, generator, heap, nested, plan_of, random_heap, random_plan, weighed_plan
-from tests.search import GROWING, ends, end_by_hand, is_closed, walk_by_hand, whole_plan
+from tests.search import GROWING, cheapest_by_hand, ends, end_by_hand, is_closed, walk_by_hand, whole_plan
 
 PLAN = read_plan("start s\nend e\nstep f: s -> a, b\nstep g: a, b -> e\nstep h: 2 a -> 2 c\nstep k: b, c -> e")
 GROWS = plan_of("t: s -> a\nu: a -> 2 a\nv: a -> e\nz: y -> 2 y\nx: y -> e")
@@ -308,24 +308,6 @@ class Checked(Case):
                 self.exact(check_led(PLAN, ("f", "g"), 1, heap(s=1), kind(value)), False)
                 self.exact(check_led(PLAN, ("f", "g"), 1, heap(s=1), kind((value,))), False)
                 self.exact(check_led(PLAN, ("f", "g"), 1, heap(s=1), kind((("s", value),))), False)
-
-
-def cheapest_by_hand(plan, crew, heap_there, goal, costs):
-    """The least (cost, steps, run) of all plain runs, by letting better ones go on until none comes."""
-    best, cost_of = {heap_there: (0, 0, ())}, dict(costs)
-    going = True
-    while going:
-        going = False
-        for papers, (cost, steps, run) in list(best.items()):
-            for name in crew:
-                behind = end_by_hand(plan, papers, (name,))
-                if behind is None:
-                    continue
-                told = (cost + cost_of[name], steps + 1, run + (name,))
-                if behind not in best or told < best[behind]:
-                    best[behind] = told
-                    going = True
-    return (best[goal][0], best[goal][2]) if goal in best else None
 
 
 class Cheapest(Case):
