@@ -1,7 +1,6 @@
 """What follows from facts, by rules that go on until nothing new comes, of what is named alone."""
 
 from caseshome.naming import Named
-from caseshome.plantext import plan_text
 from caseshome.questions import worth_of
 
 
@@ -188,7 +187,7 @@ def told_by(facts, word, question):
 
 def place_of(named, key):
     """What facts are put in order by: the word, the texts of the plans, what is left of the question."""
-    return key[0], [plan_text(plan) for plan in named.plans_of(key)], named.left_of(key)
+    return key[0], named.texts_of(key), named.left_of(key)
 
 
 def all_facts(facts):

@@ -11,15 +11,17 @@ from caseshome.weights import kept_weights
 
 
 class Numbered:
-    """Things of one sort with their numbers."""
+    """Things of one sort with their numbers, by keys that are themselves or, of plans, their texts."""
 
     def __init__(self):
         self.numbers = {}
+        self.keys_told = []
         self.things = []
 
     def number_for(self, key, thing):
         if key not in self.numbers:
             self.numbers[key] = len(self.things)
+            self.keys_told.append(key)
             self.things.append(thing)
         return self.numbers[key]
 
@@ -81,12 +83,14 @@ class Named:
         crew = self.crews.things[key[2]]
         return (crew,) if word == "sure" else (crew, *self.pairs.things[key[3]])
 
-    def plans_of(self, key):
-        numbers = key[1:3] if key[0] == "edition" else key[1:2]
-        return tuple([self.plans.things[number] for number in numbers])
+    def plan_numbers(self, key):
+        return key[1:3] if key[0] == "edition" else key[1:2]
+
+    def texts_of(self, key):
+        return tuple([self.plans.keys_told[number] for number in self.plan_numbers(key)])
 
     def question_of(self, key):
-        plans = self.plans_of(key)
+        plans = [self.plans.things[number] for number in self.plan_numbers(key)]
         return plans[0] if key[0] in ("whole", "weights") else (*plans, *self.left_of(key))
 
     def of_plan(self, plan):
