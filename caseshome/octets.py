@@ -13,7 +13,7 @@ NEWLINE_CODE = 10
 SUM_BASE = 65521
 # Great numbers are taken apart, and put together, by so many figures of 7 bits at once.
 MANY_FIGURES = 64
-MANY_BITS = 7 * 64
+MANY_BITS = 448
 
 
 def number_octets(number):
@@ -29,7 +29,7 @@ def number_octets(number):
 
 def number_of_figures(figures):
     number = 0
-    for at in reversed(range(0, len(figures), MANY_FIGURES)):
+    for at in reversed(list(range(0, len(figures), MANY_FIGURES))):
         part = 0
         for figure in reversed(figures[at:at + MANY_FIGURES]):
             part = part * 128 + figure

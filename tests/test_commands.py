@@ -4,9 +4,8 @@ import unittest
 
 from caseshome.commands import deed_line, read_deed
 from caseshome.errors import InvalidCommand
-from caseshome.plans import Plan
 from tests.deeds import LINES, PLAN
-from tests.helpers import LETTERS, ODD, Case, as_heap, generator, great_plan, heap, nested, random_plan
+from tests.helpers import LETTERS, ODD, Case, as_heap, generator, great_plan, nested, random_plan
 
 # Lines that are nearly one.
 NO_LINES = (

@@ -3,7 +3,13 @@
 import copy
 import unittest
 
+from caseshome.audit import audit
 from caseshome.closure import check_rousing, comeable, live_plan, live_steps, rounds, rousing
+from caseshome.commands import deed_line, read_deed
+from caseshome.desk import run_lines
+from caseshome.ender import dealt, ending, step_share
+from caseshome.facts import facts_of, is_fact
+from caseshome.follows import all_facts, told_by
 from caseshome.fractions import (added, bottom_of, compared, divided, floor_of, fraction, is_whole, less, multiplied,
                                  worth)
 from caseshome.court import (Growing, Stuck, Sure, Unsure, Whole, Wide, check_sure, check_verdict, sure, verdict,
@@ -13,6 +19,8 @@ from caseshome.editions import (Edition, NoEdition, can_carry, carried, carry_be
                                 is_living, need_carry, once, same_carry)
 from caseshome.heaps import (amount, change_of, change_times, changed, changes_joined, common, gap, halves, heap_of,
                              joined, need_change, need_heap, over, papers_in, taken_out, times, within)
+from caseshome.house import House
+from caseshome.houseruns import house_after, run_house, same_house
 from caseshome.joining import (again, behind, behind_heaps, beside, beside_heaps, either, either_heaps, inside,
                                known_whole)
 from caseshome.lattice import (barred, belongs, check_barred, check_made, classes, coordinates, ends_order, lattice,
@@ -20,14 +28,19 @@ from caseshome.lattice import (barred, belongs, check_barred, check_made, classe
 from caseshome.lending import beside_needed, check_near, near
 from caseshome.lists import check_lists, least_heaps, least_lists, width_of
 from caseshome.numbers import all_good, bad_run, good, good_numbers
+from caseshome.octets import (deed_octets, frame, frames, log_of, number_octets, opened, read_number, read_text,
+                              sum_of_octets, text_octets)
 from caseshome.plans import (Plan, names_of, only_steps, renamed, step_change, step_of, with_places, with_step,
                              without_steps)
 from caseshome.plantext import plan_text, read_plan
+from caseshome.prices import (check_mean, check_rounds, cost_of, cost_row, greatest_mean, least_mean, rounds_of,
+                              spare_cost)
 from caseshome.questions import is_question, most_per_case, never_below, together, worth_of
 from caseshome.rows import (balances, bar_of, check_bar, check_sum, echelon, is_echelon, order_of, sum_of, transposed,
                             turned_echelon)
 from caseshome.runs import (alike, behind_step, can_go_first, can_go_last, first_stop, folded, free, layers, many_orders,
                             most_times, need_run, possible, run_end, run_sum, steps_in, sum_change)
+from caseshome.sheets import sheet_for, sheet_holds, words
 from caseshome.simplex import Best, Endless, Never, check_cost, least_cost
 from caseshome.sums import from_parts, heaps_of, least_with, open_cases, parts
 from caseshome.terms import need_term, plan_of, read_term, runs_of, shape_numbers, term_heaps, term_text
@@ -56,6 +69,15 @@ ENDINGS = (("g",), ("k",), (), ("f", "g"))
 BC = (("b", 1), ("c", 1))
 TERM = ("row", (("step", "a"), ("beside", "f", "j", (("step", "b"), ("again", "x", "y", "z", ("step", "c"))))))
 ASKED = ((("a", 1), ("b", -2), ("c", 0), ("s", 3)), 1)
+MEAN = least_mean(HOME, COSTS, 9)
+ROUNDS = rounds_of(HOME, COSTS, 9)
+DEEDS = [("plan", "p", LEFT), ("plan", "q", RIGHT), ("crew", "c", "p", ("t",)), ("edition", "x", "p", "q", CARRY), ("floor", "f", "p"),
+         ("put", "f", 3), ("batch", (("put", "f", 1),)), ("end", "f", "c"), ("undo",)]
+LINES = [deed_line(deed) for deed in DEEDS] + ["sure c", "told f", "ending f", "mean p 3", "whole q", "can f c"]
+OCTETS = log_of(house_after(DEEDS, 9))
+RECORD = [("depth", ("told", (0, 0)), ()), ("undo", ("did", "nothing"), ())]
+SHEET = sheet_for("edition", (LEFT, RIGHT, CARRY), 9)
+FACTS = [("edition", (LEFT, RIGHT, CARRY), True), ("belongs", (LEFT, 1, (("l", 1),)), True), ("sure", (LEFT, ("t",)), True)]
 
 # A function, its arguments by name in order; lists stand where a sequence is expected.
 CALLS = (
@@ -163,12 +185,28 @@ CALLS = (
     (worth_of, {"plan": HOME, "question": ASKED, "cases": 3, "heap": (("a", 2), ("e", 1))}),
     (never_below, {"plan": HOME, "question": ASKED, "most": 9}), (is_question, {"plan": HOME, "value": ASKED}),
     (most_per_case, {"plan": HOME, "place": "a", "most": 9}), (together, {"plan": HOME, "heaps": [BC, (), BC], "most": 9}),
+    (least_mean, {"plan": HOME, "costs": COSTS, "most": 9}), (check_mean, {"plan": HOME, "costs": COSTS, "value": MEAN}),
+    (rounds_of, {"plan": HOME, "costs": COSTS, "most": 9}), (check_rounds, {"plan": HOME, "costs": COSTS, "best": MEAN, "value": ROUNDS}),
+    (spare_cost, {"plan": HOME, "costs": COSTS, "value": ROUNDS, "one": 3}), (cost_of, {"plan": HOME, "cases": 2, "costs": COSTS, "most": 99}),
+    (cost_row, {"plan": HOME, "costs": COSTS, "most": 99, "top": 3}), (greatest_mean, {"plan": HOME, "costs": COSTS, "most": 9}),
+    (ending, {"plan": HOME, "cases": 2, "heap": (("a", 1), ("b", 1), ("s", 1)), "most": 9}), (step_share, {"plan": HOME, "most": 9}),
+    (dealt, {"plan": HOME, "cases": 2, "heap": (("a", 1), ("b", 1), ("s", 1)), "most": 9}), (deed_line, {"deed": DEEDS[3]}), (deed_line, {"deed": DEEDS[6]}),
+    (read_deed, {"line": "edition x p q, l = 2 r, m = p"}), (run_house, {"deeds": DEEDS, "most": 9}), (house_after, {"deeds": DEEDS, "most": 9}),
+    (same_house, {"one": house_after(DEEDS, 9), "other": house_after(DEEDS[:-1], 9)}), (House, {"most": 9}), (number_octets, {"number": 300}),
+    (text_octets, {"text": "ab"}), (read_number, {"octets": (172, 2), "at": 0}), (read_text, {"octets": (2, 97, 98), "at": 0}),
+    (sum_of_octets, {"octets": (2, 97)}), (frame, {"body": (1, 2)}), (frames, {"octets": OCTETS}), (deed_octets, {"deed": DEEDS[3]}),
+    (log_of, {"house": house_after(DEEDS, 9)}), (opened, {"octets": OCTETS + (7,), "most": 9}), (words, {}), (sheet_holds, {"value": SHEET}),
+    (sheet_for, {"word": "edition", "question": (LEFT, RIGHT, CARRY), "most": 9}), (sheet_for, {"word": "whole", "question": LEFT, "most": 1}),
+    (facts_of, {"sheet": SHEET}), (is_fact, {"value": FACTS[0]}), (told_by, {"facts": FACTS, "word": "ends", "question": (LEFT, ("t",), 1, (("l", 1),))}),
+    (all_facts, {"facts": FACTS}), (run_lines, {"lines": LINES, "most": 9}), (audit, {"record": RECORD, "most": 9}),
 )
 CLASSES = (Plan, Best, Never, Endless, Led, Lost, Growing, Wide, Stuck, Whole, Sure, Unsure, Edition, NoEdition)
 
 
 def opened_up(value):
     """What is in a plan, so that all of it is compared with its sorts."""
+    if isinstance(value, House):
+        return opened_up(("House", value.most, value.deeds(), value.undone(), tuple(value.told(name) for name in value.names("floor"))))
     if isinstance(value, CLASSES):
         return (type(value).__name__, *[(name, opened_up(part)) for name, part in sorted(vars(value).items())])
     if isinstance(value, (tuple, list)):
@@ -182,6 +220,8 @@ class Common(Case):
             found = opened_up(function(*named.values()))
             self.exact(opened_up(function(**named)), found)
             self.exact(opened_up(function(**dict(reversed(list(named.items()))))), found)
+            if not named:
+                continue
             first = list(named)[0]
             self.exact(opened_up(function(named[first], **{name: named[name] for name in list(named)[1:]})), found)
 
@@ -209,7 +249,7 @@ class Common(Case):
     def test_bools_are_told(self):
         for function, named in CALLS:
             if function in (within, free, alike, can_go_first, can_go_last, is_whole, is_echelon, belongs, good, can_carry,
-                            is_living, is_question):
+                            is_living, is_question, same_house, sheet_holds, is_fact):
                 self.assertIs(type(function(**named)), bool)
             if function.__name__.startswith("check_") and named["value"] not in ((3, (("f", 3), ("g", 2))), ((), (), ())):
                 self.assertIs(function(**named), True)

@@ -13,7 +13,7 @@ from caseshome.plans import Plan, names_of
 from caseshome.plantext import read_plan
 from caseshome.sheets import sheet_for
 from caseshome.weights import kept_weights
-from tests.handfollows import ByHand, Clash, all_by_hand, follows_by_hand, key
+from tests.handfollows import Clash, all_by_hand, follows_by_hand, key
 from tests.helpers import Case, generator, heap, plan_of
 from tests.search import GROWING, STUCK, WHOLE
 from tests.test_sheets import questions_of

@@ -13,7 +13,7 @@ from tests.deeds import LINES, PLAN, wrong_deeds
 from tests.helpers import ODD, Case, generator, heap, nested, plan_of
 from tests.model import SORTS, Model
 from tests.search import GREAT, GROWING, STUCK, WHOLE
-from tests.somedeeds import FORK, GROWS, LINE, MOST, TWIN, WIDE, carries, opening, some_deed, some_deeds
+from tests.somedeeds import FORK, GROWS, LINE, MOST, TWIN, WIDE, carries, opening, some_deeds
 
 OVER = tuple((place, (("e" if place == "e" else "s", 1),)) for place in LINE.places)
 

@@ -67,6 +67,32 @@ NAMES = {
                  "check_once": "old new carry crew value"},
     "questions": {"worth_of": "plan question cases heap", "never_below": "plan question most",
                   "is_question": "plan value", "most_per_case": "plan place most", "together": "plan heaps most"},
+    "prices": {"least_mean": "plan costs most", "check_mean": "plan costs value", "rounds_of": "plan costs most",
+               "check_rounds": "plan costs best value", "spare_cost": "plan costs value one",
+               "cost_of": "plan cases costs most", "cost_row": "plan costs most top",
+               "greatest_mean": "plan costs most"},
+    "ender": {"ending": "plan cases heap most", "step_share": "plan most", "dealt": "plan cases heap most"},
+    "commands": {"deed_line": "deed", "read_deed": "line"},
+    "houseruns": {"run_house": "deeds most", "house_after": "deeds most", "same_house": "one other"},
+    "octets": {"number_octets": "number", "text_octets": "text", "read_number": "octets at",
+               "read_text": "octets at", "sum_of_octets": "octets", "frame": "body", "frames": "octets",
+               "deed_octets": "deed", "log_of": "house", "opened": "octets most"},
+    "sheets": {"sheet_holds": "value", "words": "", "sheet_for": "word question most"},
+    "facts": {"facts_of": "sheet", "is_fact": "value"},
+    "follows": {"told_by": "facts word question", "all_facts": "facts"},
+    "desk": {"run_lines": "lines most"},
+    "audit": {"audit": "record most"},
+}
+# The classes whose objects change: how they are made, and their methods, which each defines itself.
+MUTABLE = {
+    ("house", "House"): ({"most": 2000}, {
+        "do": "deed", "depth": "", "deeds": "", "twin": "", "names": "sort", "told": "name", "hanging": "name",
+        "whole_now": "plan", "heaps_now": "plan", "edition_now": "edition", "sure_now": "crew", "open_now": "floor",
+        "can_now": "floor crew", "ending_now": "floor", "made_now": "floor", "carries_now": "floor",
+        "roads": "floor"}),
+    ("journal", "Journal"): ({"octets": (), "most": 2000}, {
+        "do": "deed", "sync": "", "octets": "", "house": "", "cut": "at", "packed": ""}),
+    ("desk", "Desk"): ({"most": 2000}, {"say": "line", "house": "", "record": ""}),
 }
 # The classes with a described ==, which each defines itself.
 COMPARED = {"plans": "Plan", "simplex": "Best Never Endless", "walks": "Led Lost", "editions": "Edition NoEdition",
@@ -85,6 +111,29 @@ class Interface(unittest.TestCase):
                 for one in told:
                     self.assertIs(one.default, inspect.Parameter.empty, name)
                     self.assertIs(one.kind, inspect.Parameter.POSITIONAL_OR_KEYWORD, name)
+
+    def test_every_file_of_the_interface(self):
+        told = set(NAMES) | {module for module, _ in MUTABLE}
+        self.assertEqual(len(told), 34)
+        for module in told:
+            importlib.import_module("caseshome." + module)
+
+    def test_classes_that_change(self):
+        for (module, name), (made, methods) in MUTABLE.items():
+            kind = getattr(importlib.import_module("caseshome." + module), name)
+            self.assertEqual(kind.__module__, "caseshome." + module)
+            told = inspect.signature(kind).parameters
+            self.assertEqual({one: told[one].default for one in told}, made)
+            self.assertEqual(list(told), list(made))
+            self.assertEqual(kind().most, 2000)
+            self.assertEqual(kind(most=7).most, 7)
+            for method, parameters in methods.items():
+                self.assertIn(method, vars(kind), name)
+                given = list(inspect.signature(getattr(kind, method)).parameters)
+                self.assertEqual(given[1:], parameters.split(), method)
+            for sign in ("__len__", "__iter__"):
+                self.assertNotIn(sign, dir(kind), name)
+            self.assertFalse(kind() == kind(), name)
 
     def test_equality_is_their_own(self):
         for module, names in COMPARED.items():

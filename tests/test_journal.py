@@ -12,7 +12,7 @@ from caseshome.plans import Plan
 from tests.deeds import PLAN
 from tests.helpers import ODD, Case, generator, heap
 from tests.model import SORTS
-from tests.somedeeds import LINE, MOST, opening, some_deed, some_deeds
+from tests.somedeeds import LINE, MOST, opening, some_deeds
 
 SMALL = Plan(("a", "b"), (("t", (("a", 1),), (("b", 1),)),), "a", "b")
 

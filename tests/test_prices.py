@@ -4,15 +4,14 @@ import unittest
 from fractions import Fraction
 
 from caseshome.court import Whole
-from caseshome.errors import NoName, Refused
-from caseshome.plans import Plan, names_of
+from caseshome.errors import Refused
+from caseshome.plans import names_of
 from caseshome.plantext import read_plan
 from caseshome.prices import (check_mean, check_rounds, cost_of, cost_row, greatest_mean, least_mean, rounds_of,
                               spare_cost)
 from caseshome.simplex import Best, Endless, Never, least_cost
-from tests.byhand import is_fraction_by_hand, worth_by_hand
-from tests.helpers import (ODD, Case, change_by_hand, generator, heap, nested, plan_of, random_plan, step_by_hand,
-                           triple_of)
+from tests.byhand import is_fraction_by_hand
+from tests.helpers import ODD, Case, change_by_hand, generator, nested, plan_of, step_by_hand, triple_of
 from tests.search import (GREAT, GROWING, STUCK, WHOLE, cheapest_by_hand, ends, live_of, starts, walk_by_hand,
                           whole_plan)
 

@@ -7,7 +7,7 @@ from caseshome.plans import Plan, names_of
 from caseshome.plantext import read_plan
 from caseshome.walks import Led, Lost, check_costs, check_led, cheapest, ends_of, first_run, led, reached
 from tests.helpers import ODD, Case, generator, heap, nested, plan_of, random_heap, random_plan, weighed_plan
-from tests.search import GROWING, cheapest_by_hand, ends, end_by_hand, is_closed, walk_by_hand, whole_plan
+from tests.search import cheapest_by_hand, ends, end_by_hand, is_closed, walk_by_hand, whole_plan
 
 PLAN = read_plan("start s\nend e\nstep f: s -> a, b\nstep g: a, b -> e\nstep h: 2 a -> 2 c\nstep k: b, c -> e")
 GROWS = plan_of("t: s -> a\nu: a -> 2 a\nv: a -> e\nz: y -> 2 y\nx: y -> e")
