@@ -88,7 +88,7 @@ def frame_at(octets, at):
     if found is None or found[0] + 2 > len(octets) - found[1]:
         return None
     many, start = found
-    body = octets[start:start + many]
+    body = tuple(octets[start:start + many])
     low, high = octets[start + many:start + many + 2]
     return (body, start + many + 2) if sum_of_octets(body) == low + 256 * high else None
 

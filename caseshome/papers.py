@@ -7,7 +7,7 @@ from caseshome.lattice import barred, made_by
 from caseshome.lending import near
 from caseshome.prices import mean_of
 from caseshome.questions import worth_of
-from caseshome.walks import Led, led
+from caseshome.walks import Led, led, need_crew_weights
 
 
 def live_paper(judge, plan):
@@ -70,6 +70,8 @@ def sure_paper(judge, question):
     whole = whole_paper(judge, plan)
     if whole is None:
         return None
+    # Dead steps may stand in it, and these may raise weights.
+    need_crew_weights(plan, crew)
     found = judge.sure(plan, crew)
     return (whole, found.endings) if isinstance(found, Sure) else None
 

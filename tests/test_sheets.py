@@ -257,7 +257,7 @@ class Making(Case):
         rng = generator(261)
         counts = {word: [0, 0] for word in words()}
         for at in range(250):
-            plan = whole_plan(rng) if at % 3 == 0 else plan_of(rng.choice(WHOLE + STUCK + GROWING))
+            plan = whole_plan(rng) if at % 3 == 0 else plan_of(rng.choice(WHOLE + STUCK + GROWING) + rng.choice(("", "", "\nzz: zy -> 2 zy")))
             most = rng.choice((1, 2, 4, 9, 60, 4000))
             for word, question in questions_of(rng, plan):
                 found = self.unchanged(sheet_for, word, question, most)
@@ -274,6 +274,20 @@ class Making(Case):
             self.assertGreater(counts[word][1], 10, word)
             if word != "live":
                 self.assertGreater(counts[word][0], 10, word)
+
+    def test_crews_with_dead_steps(self):
+        plan = plan_of("t: s -> e\ny: y -> e\nz: y -> 2 y")
+        for crew, right in ((("t",), True), (("t", "y"), True), (("t", "z"), False), (("t", "y", "z"), False), (("z",), False), (("y",), False), ((), False)):
+            found = sheet_for("sure", (plan, crew), 9)
+            self.exact(found is not None, right)
+            self.exact(told_by_functions("sure", (plan, crew), 9) is not None, right)
+            for word in ("led", "lost"):
+                question = (plan, crew, 1, heap(s=1))
+                self.assertTrue((sheet_for(word, question, 9) or (word, question, None))[2] == told_by_functions(word, question, 9))
+        # A crew without weights of its own is looked at, though no function tells of it.
+        whole = sheet_for("whole", plan, 9)[2]
+        self.exact(sheet_holds(("sure", (plan, ("t", "z")), (whole, ((), ("t",))))), True)
+        self.exact(sheet_holds(("led", (plan, ("t", "z"), 1, heap(s=1)), ("t",))), True)
 
     def test_sizes(self):
         self.refused(InvalidSize, {"word": "word"}, sheet_for, "walks", None, 10)
